@@ -1,0 +1,1 @@
+"""Pricebend: words led to one another at all prices at once."""
