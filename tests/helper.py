@@ -1,9 +1,11 @@
-"""What several test files need: refusals checked whole, and scripts to test with."""
+"""What several test files need: refusals checked whole; scripts, words, numbers and prices to test with."""
 
 import random
 
 from pricebend import errors
 
+SMALL = "abcdefghijklmnopqrstuvwxyz"
+SIGNS = [chr(at) for at in range(32, 127)] + ["\n"]
 OF_A_TEXT = ("NoWord", "NoText", "NoFraction", "NoPrice", "NoPoint", "NotLeast", "NoLine", "NothingDone")
 OF_A_FIELD = {"NotOn": "word", "TooLong": "letters", "TooMany": "many", "NoNumber": "number", "NoName": "name"}
 ALL_REFUSALS = OF_A_TEXT + tuple(OF_A_FIELD)
@@ -96,3 +98,57 @@ def some_word(dice, letters, most=12):
 def some_scripts(many, seed, letters="abz"):
     dice = random.Random(seed)
     return [script_from(dice, some_word(dice, letters), letters) for _ in range(many)]
+
+
+def words_over(letters, most):
+    """Every word of at most so many of these letters."""
+    told = [""]
+    last = [""]
+    for _ in range(most):
+        last = [word + letter for word in last for letter in letters]
+        told.extend(last)
+    return told
+
+
+def scripts_between(one, other):
+    """Every script from the one word to the other one, in the order of their moves."""
+    if one == "" and other == "":
+        return [()]
+    told = []
+    if one and other:
+        step = ("keep", one[0]) if one[0] == other[0] else ("other", one[0], other[0])
+        told.extend((step,) + behind for behind in scripts_between(one[1:], other[1:]))
+    if one:
+        told.extend((("out", one[0]),) + behind for behind in scripts_between(one[1:], other))
+    if other:
+        told.extend((("in", other[0]),) + behind for behind in scripts_between(one, other[1:]))
+    return told
+
+
+def some_number(dice, figures):
+    """Some whole number of just so many figures, of either sign."""
+    return dice.choice((-1, 1)) * dice.randint(10 ** (figures - 1), 10 ** figures - 1)
+
+
+def some_numbers(many, seed):
+    """Whole numbers of either sign: 0, small ones, and ones of up to forty figures."""
+    dice = random.Random(seed)
+    told = [0, 1, -1, 2, -2, 6, -6, 10 ** 39, -(10 ** 39), 10 ** 40 - 1, 1 - 10 ** 40]
+    while len(told) < many:
+        told.append(some_number(dice, dice.choice((1, 1, 2, 3, 20, 40))))
+    return told
+
+
+def prices_up_to(most):
+    """Every price of numbers up to that one, in lowest terms or not."""
+    numbers = range(most + 1)
+    return [(o, s, t) for o in numbers for s in numbers for t in numbers if (o, s, t) != (0, 0, 0)]
+
+
+def some_price(dice):
+    """Some price of numbers of any size up to forty figures, some of them 0."""
+    while True:
+        figures = dice.choice((1, 1, 1, 2, 12, 40))
+        price = tuple(dice.choice((0, 1, 1, 1)) * abs(some_number(dice, figures)) for _ in range(3))
+        if price != (0, 0, 0):
+            return price

@@ -2,11 +2,8 @@
 
 import unittest
 
-from helper import check_refused
+from helper import SIGNS, SMALL, check_refused
 from pricebend.words import word_of
-
-SMALL = "abcdefghijklmnopqrstuvwxyz"
-SIGNS = [chr(at) for at in range(32, 127)] + ["\n"]
 
 
 class WordsTold(unittest.TestCase):
