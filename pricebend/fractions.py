@@ -1,6 +1,11 @@
-"""Fractions: tuples (top, bottom) in lowest terms, the bottom from 1 on."""
+"""Whole numbers, and fractions: tuples (top, bottom) in lowest terms, the bottom from 1 on."""
 
 from pricebend.errors import NoFraction
+
+
+def is_whole(thing):
+    # To Python the truths are ints, too; here they stand for no number.
+    return isinstance(thing, int) and not isinstance(thing, bool)
 
 
 def common_divisor(a, b):

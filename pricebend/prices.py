@@ -1,13 +1,26 @@
 """Prices: tuples (o, s, t) of an other, of a letter left out or put in, of a stretch."""
 
 from pricebend.errors import NoPoint, NoPrice
-from pricebend.fractions import common_divisor, fraction_of
+from pricebend.fractions import common_divisor, fraction_of, is_whole
+
+
+def divisor_of_all(o, s, t):
+    return common_divisor(common_divisor(o, s), t)
+
+
+def is_lowest_price(thing):
+    """Whether the thing, whatever it is, is a price in lowest terms."""
+    if not isinstance(thing, tuple) or len(thing) != 3:
+        return False
+    if not all(is_whole(part) and part >= 0 for part in thing):
+        return False
+    return divisor_of_all(*thing) == 1
 
 
 def price_of(o, s, t):
     if o < 0 or s < 0 or t < 0:
         raise NoPrice("no number of a price is below 0")
-    divisor = common_divisor(common_divisor(o, s), t)
+    divisor = divisor_of_all(o, s, t)
     if divisor == 0:
         raise NoPrice("not all numbers of a price are 0")
     return o // divisor, s // divisor, t // divisor

@@ -5,7 +5,8 @@ import random
 import time
 import unittest
 
-from helper import SMALL, is_plain, prices_up_to, script_from, scripts_between, some_price, some_word, words_over
+from helper import SMALL, TWELVES, is_plain, moves_of, prices_up_to, script_from, scripts_between, some_cases
+from helper import some_pair, some_price, some_word, words_over
 from pricebend.prices import cost_of
 from pricebend.scripts import counts_of, ends_of, is_script, led_through, mirror_of, turned_back
 from pricebend.table import first_script, least_cost
@@ -13,12 +14,6 @@ from pricebend.texts import read_script
 
 ALONE = [(1, 0, 0), (0, 1, 0), (0, 0, 1), (7, 0, 0), (0, 7, 0), (0, 0, 7), (10 ** 39, 0, 0), (0, 0, 10 ** 39)]
 SOME_PRICES = ALONE + prices_up_to(2) + [(3, 1, 2), (5, 2, 1), (4, 1, 4), (9, 2, 3), (1, 3, 9), (10 ** 39, 1, 10 ** 39)]
-MOVES = {"keep": 0, "other": 0, "out": 1, "in": 2}
-TWELVES = ("a" * 12, "b" * 12, "ab" * 6, "ba" * 6, "aab" * 4, SMALL[:12], SMALL[11::-1], SMALL[12:24], "abcabdabeabf")
-
-
-def moves_of(script):
-    return tuple(MOVES[step[0]] for step in script)
 
 
 @functools.lru_cache(8)
@@ -50,22 +45,6 @@ def best_slowly(one, other, price):
         return min(found)
 
     return best(0, 0, 0)
-
-
-def some_pair(dice):
-    """Two words: of few letters or of many, of none to twelve or of just twelve, and some of them near."""
-    letters = dice.choice(("a", "ab", "abc", SMALL))
-    if dice.random() < 0.3:
-        return tuple("".join(dice.choice(letters) for _ in range(12)) for _ in range(2))
-    one = some_word(dice, letters)
-    if dice.random() < 0.5:
-        return one, ends_of(script_from(dice, one, letters))[1]
-    return one, some_word(dice, letters)
-
-
-def some_cases(many, seed):
-    dice = random.Random(seed)
-    return [some_pair(dice) + (some_price(dice),) for _ in range(many)]
 
 
 CASES = some_cases(400, 15)
